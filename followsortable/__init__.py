@@ -1,0 +1,1 @@
+"""Followsortable: the design of tables by dependencies."""

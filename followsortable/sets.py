@@ -1,0 +1,38 @@
+"""Sets of columns: tuples of columns in ascending order, without repeats."""
+from itertools import combinations
+
+
+def as_set(columns):
+    """The set of the columns in a list, in any order and with repeats."""
+    return tuple(sorted(set(columns)))
+
+
+def united(a, b):
+    """The set of the columns that are in a or b."""
+    return tuple(sorted(set(a) | set(b)))
+
+
+def met(a, b):
+    """The set of the columns that are in both a and b."""
+    return tuple(sorted(set(a) & set(b)))
+
+
+def less(a, b):
+    """The set of the columns that are in a and not in b."""
+    return tuple(sorted(set(a) - set(b)))
+
+
+def is_within(a, b):
+    """Whether all columns of a are columns of b."""
+    return len(set(a) - set(b)) == 0
+
+
+def whole(count):
+    """The set of all columns, for a number of columns."""
+    return tuple(range(count))
+
+
+def all_sets(columns):
+    """The sets within a set, by the number of columns, then as tuples."""
+    members = sorted(set(columns))
+    return [chosen for size in range(len(members) + 1) for chosen in combinations(members, size)]

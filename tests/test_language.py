@@ -1,0 +1,140 @@
+"""Those rules of LANGUAGE.md that can be read off a file: L1 to L3, L8, L10, L12, L14, L17, L27."""
+import ast
+import builtins
+import pathlib
+import re
+import unittest
+import warnings
+
+PACKAGE = pathlib.Path(__file__).resolve().parent.parent / "followsortable"
+
+LIBRARY = {
+    "heapq": {"heappush", "heappop", "heapify", "heapreplace", "heappushpop"},
+    "math": {"gcd", "lcm", "isqrt", "comb", "perm", "factorial"},
+    "itertools": {
+        "product", "combinations", "permutations", "chain", "accumulate", "pairwise", "islice", "zip_longest",
+    },
+    "collections": {"defaultdict"},
+    "__future__": {"annotations"},
+}
+
+BUILTINS = set(
+    "len range enumerate zip min max sum abs sorted reversed int str bool bytes list tuple dict set frozenset"
+    " isinstance ord repr any all divmod pow getattr hasattr setattr iter next map super property staticmethod"
+    " classmethod object float Exception ValueError TypeError KeyError IndexError LookupError ZeroDivisionError"
+    " ArithmeticError OverflowError RuntimeError NotImplementedError AttributeError StopIteration NotImplemented".split()
+)
+
+METHODS = set(
+    "__init__ __eq__ __repr__ __str__ __len__ __enter__ __exit__ __call__ __iter__".split()
+)
+
+BARRED = set("register mro elements open input law version_info with_traceback add_note".split())
+
+STATEMENTS = (
+    ast.Assign, ast.AugAssign, ast.AnnAssign, ast.If, ast.While, ast.For, ast.Return, ast.Break, ast.Continue,
+    ast.Pass, ast.Raise, ast.Assert, ast.Delete, ast.Nonlocal, ast.Match, ast.With, ast.Try, ast.Expr,
+    ast.FunctionDef, ast.ClassDef, ast.ImportFrom,
+)
+
+
+def files():
+    return [(path, path.read_bytes().decode("ascii")) for path in sorted(PACKAGE.rglob("*.py"))]
+
+
+def names_of(tree):
+    """Every name that a file gives or reads."""
+    found = set()
+    for node in ast.walk(tree):
+        for field in ("id", "name", "attr", "arg", "asname"):
+            name = getattr(node, field, None)
+            if isinstance(name, str) and not isinstance(node, ast.alias):
+                found.add(name)
+    return found
+
+
+class Language(unittest.TestCase):
+    def test_the_folder_holds_nothing_but_modules(self):
+        for path in PACKAGE.iterdir():
+            if path.name != "__pycache__":
+                self.assertRegex(path.name, r"^[a-z_][a-z0-9_]*\.py$")
+
+    def test_characters(self):
+        for path, text in files():
+            self.assertIsNone(re.search(r"[^ -~\n]", text), path)
+
+    def test_size(self):
+        for path, text in files():
+            lines = text.split("\n")
+            self.assertLessEqual(len(lines), 399, path)
+            self.assertLessEqual(max(len(line) for line in lines), 120, path)
+            for node in ast.walk(ast.parse(text)):
+                if isinstance(node, ast.FunctionDef):
+                    self.assertLessEqual(node.end_lineno - node.lineno + 1, 40, (path, node.name))
+
+    def test_python_gives_no_warning(self):
+        with warnings.catch_warnings():
+            warnings.simplefilter("error")
+            for path, text in files():
+                compile(text, str(path), "exec")
+
+    def test_imports(self):
+        for path, text in files():
+            for node in ast.walk(ast.parse(text)):
+                self.assertNotIsInstance(node, ast.Import, path)
+                if isinstance(node, ast.ImportFrom):
+                    names = {alias.name for alias in node.names}
+                    self.assertEqual(node.level, 0, path)
+                    if node.module in LIBRARY:
+                        self.assertLessEqual(names, LIBRARY[node.module], path)
+                        self.assertFalse([alias for alias in node.names if alias.asname], path)
+                    else:
+                        self.assert_defined(path, node.module, names)
+
+    def assert_defined(self, path, module, names):
+        folder, name = module.split(".")
+        self.assertEqual(folder, "followsortable", path)
+        defined = set()
+        for node in ast.parse((PACKAGE / (name + ".py")).read_text()).body:
+            if isinstance(node, (ast.FunctionDef, ast.ClassDef)):
+                defined.add(node.name)
+            if isinstance(node, ast.Assign):
+                defined.add(node.targets[0].id)
+        self.assertLessEqual(names, defined, path)
+
+    def test_module_level(self):
+        for path, text in files():
+            body = ast.parse(text).body
+            self.assertIsInstance(body[0].value.value, str, path)
+            for node in body[1:]:
+                self.assertIsInstance(node, (ast.ImportFrom, ast.FunctionDef, ast.ClassDef, ast.Assign), path)
+
+    def test_statements_and_values(self):
+        for path, text in files():
+            for node in ast.walk(ast.parse(text)):
+                if isinstance(node, ast.stmt):
+                    self.assertIsInstance(node, STATEMENTS, path)
+                self.assertNotIsInstance(node, (ast.Div, ast.Await, ast.AsyncFunctionDef), path)
+                if isinstance(node, ast.Constant):
+                    self.assertNotIsInstance(node.value, (float, complex), path)
+                if isinstance(node, ast.Constant) and isinstance(node.value, str):
+                    self.assertNotIn("%", node.value, path)
+
+    def test_names(self):
+        barred = set(dir(builtins))
+        for path, text in files():
+            tree = ast.parse(text)
+            used = {node.id for node in ast.walk(tree) if isinstance(node, ast.Name)}
+            self.assertLessEqual(used & barred, BUILTINS, path)
+            names = names_of(tree)
+            self.assertFalse(names & BARRED, path)
+            self.assertLessEqual({name for name in names if name.startswith("__")}, METHODS, path)
+            given = {node.name for node in tree.body if isinstance(node, (ast.FunctionDef, ast.ClassDef))}
+            given |= {node.arg for node in ast.walk(tree) if isinstance(node, ast.arg)}
+            stored = [node for node in ast.walk(tree) if isinstance(node, ast.Name)]
+            given |= {node.id for node in stored if isinstance(node.ctx, ast.Store)}
+            self.assertFalse(given & barred, path)
+
+
+if __name__ == "__main__":
+    unittest.main()
