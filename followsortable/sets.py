@@ -36,3 +36,21 @@ def all_sets(columns):
     """The sets within a set, by the number of columns, then as tuples."""
     members = sorted(set(columns))
     return [chosen for size in range(len(members) + 1) for chosen in combinations(members, size)]
+
+
+def is_set(columns, count):
+    """Whether a tuple of any numbers is a set of the columns that there are."""
+    return met(columns, whole(count)) == columns
+
+
+def mask_of(columns):
+    """A set as one number: the bits with the numbers of its columns are 1."""
+    mask = 0
+    for column in columns:
+        mask |= 1 << column
+    return mask
+
+
+def set_of(mask):
+    """The set of which mask_of makes this number."""
+    return tuple([column for column in range(mask.bit_length()) if mask >> column & 1])

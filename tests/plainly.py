@@ -1,0 +1,262 @@
+"""The definitions of the document word by word, for the tests to compare with, and samples.
+
+Nothing here uses what it is compared with: of the package only the classes
+of the dependencies, to make samples and to ask of which kind one is.
+"""
+import itertools
+
+from followsortable.dependency import Fd, Jd, Mvd
+
+
+def subsets(columns):
+    """All sets within a list of columns, as ascending tuples."""
+    columns = sorted(set(columns))
+    return [chosen for size in range(len(columns) + 1) for chosen in itertools.combinations(columns, size)]
+
+
+def some_set(chance, count, share=0.4):
+    return tuple(column for column in range(count) if chance.random() < share)
+
+
+def some_fds(chance, count, many, share=0.4):
+    return [Fd(some_set(chance, count, share), some_set(chance, count, share)) for _ in range(many)]
+
+
+def some_pair(chance, count, share=0.4):
+    """A functional or a many-valued dependency."""
+    kind = chance.choice((Fd, Mvd))
+    return kind(some_set(chance, count, share), some_set(chance, count, share))
+
+
+def some_jd(chance, count, many, share=0.5):
+    """A join dependency with so many parts, whose union is the whole set."""
+    parts = [set(some_set(chance, count, share)) for _ in range(many)]
+    for column in range(count):
+        if not any(column in part for part in parts):
+            chance.choice(parts).add(column)
+    return Jd([sorted(part) for part in parts])
+
+
+def fields(dependency):
+    """A dependency as a value that == compares without its help."""
+    if isinstance(dependency, Jd):
+        return ("Jd", dependency.parts)
+    return (type(dependency).__name__, dependency.left, dependency.right)
+
+
+def all_fields(dependencies):
+    return [fields(dependency) for dependency in dependencies]
+
+
+# Closures, point 11.
+
+
+def is_closed(dependencies, columns):
+    return all(set(fd.right) <= set(columns) for fd in dependencies if set(fd.left) <= set(columns))
+
+
+def least_closed(count, dependencies, columns):
+    """What all closed sets that the columns are within have in common."""
+    around = [some for some in subsets(range(count)) if set(columns) <= set(some)]
+    common = set(range(count))
+    for some in around:
+        if is_closed(dependencies, some):
+            common &= set(some)
+    return tuple(sorted(common))
+
+
+# What a table keeps, point 9.
+
+
+def agree(r, s, columns):
+    return all(r[column] == s[column] for column in columns)
+
+
+def keeps(count, rows, dependency):
+    """Whether the table with all columns and these rows keeps a dependency."""
+    rows = sorted(set(rows))
+    if isinstance(dependency, Jd):
+        there = [{tuple(row[column] for column in part) for row in rows} for part in dependency.parts]
+        return len(joined(list(zip(dependency.parts, there)), count)) == len(rows)
+    left, right = dependency.left, dependency.right
+    others = [column for column in range(count) if column not in left + right]
+    groups = {}
+    for row in rows:
+        groups.setdefault(tuple(row[column] for column in left), []).append(row)
+    for group in groups.values():
+        if isinstance(dependency, Fd):
+            if not all(agree(row, group[0], right) for row in group):
+                return False
+        else:
+            # There is one row for each pair of what stands there in the one part and in the other.
+            ours = {tuple(row[column] for column in left + right) for row in group}
+            theirs = {tuple(row[column] for column in others) for row in group}
+            if len(group) != len(ours) * len(theirs):
+                return False
+    return True
+
+
+def joined(projections, count):
+    """The rows of the join of projections, pairs (columns, rows), that have all columns together."""
+    seen, found = [], [{}]
+    for columns, rows in projections:
+        shared = [column for column in columns if column in seen]
+        partners = {}
+        for row in rows:
+            cells = dict(zip(columns, row))
+            partners.setdefault(tuple(cells[column] for column in shared), []).append(cells)
+        seen = seen + [column for column in columns if column not in seen]
+        found = [
+            {**one, **other} for one in found
+            for other in partners.get(tuple(one[column] for column in shared), [])
+        ]
+    return {tuple(one[column] for column in range(count)) for one in found}
+
+
+def shows_not(count, dependencies, target, rows):
+    """Whether rows are a table that keeps the dependencies and not the target."""
+    if any(len(row) != count for row in rows):
+        return False
+    kept = [keeps(count, rows, dependency) for dependency in dependencies]
+    return all(kept) and not keeps(count, rows, target)
+
+
+# Derivations, point 12.
+
+
+def is_set(columns, count):
+    in_order = all(a < b for a, b in zip(columns, columns[1:]))
+    return in_order and all(0 <= column < count for column in columns)
+
+
+def derived(count, dependencies, rows):
+    """The dependencies that the rows of a derivation tell, or None if one of the rows is not right."""
+    told = []
+    for row in rows:
+        found = row_tells(count, dependencies, told, row)
+        if found is None:
+            return None
+        told.append((found[0], tuple(sorted(found[1])), tuple(sorted(found[2]))))
+    return told
+
+
+def row_tells(count, dependencies, told, row):
+    """What one more row of a derivation tells, as (kind, left, right), or None."""
+    word, everything = row[0], set(range(count))
+    if word == "told":
+        if 0 <= row[1] < len(dependencies) and not isinstance(dependencies[row[1]], Jd):
+            return fields(dependencies[row[1]])
+        return None
+    if word == "within":
+        fit = is_set(row[1], count) and is_set(row[2], count) and set(row[2]) <= set(row[1])
+        return ("Fd", row[1], row[2]) if fit else None
+    numbers = row[1:3] if word in ("through", "beyond", "meets") else row[1:2]
+    kinds = {"through": "Fd Fd", "beyond": "Mvd Mvd", "meets": "Mvd Fd", "with": "Fd", "also": "Fd"}
+    if not all(0 <= number < len(told) for number in numbers):
+        return None
+    if [told[number][0] for number in numbers] != kinds.get(word, "Mvd").split():
+        return None
+    if not all(is_set(columns, count) for columns in row[1 + len(numbers):]):
+        return None
+    x, y = set(told[row[1]][1]), set(told[row[1]][2])
+    if word == "with":
+        return ("Fd", x | set(row[2]), y | set(row[2]))
+    if word == "also":
+        return ("Mvd", x, y)
+    if word == "other":
+        return ("Mvd", x, everything - x - y)
+    if word == "wide":
+        return ("Mvd", x | set(row[2]), y | set(row[3])) if set(row[3]) <= set(row[2]) else None
+    w, z = set(told[row[2]][1]), set(told[row[2]][2])
+    if word == "through":
+        return ("Fd", x, z) if y == w else None
+    if word == "beyond":
+        return ("Mvd", x, z - y) if y == w else None
+    return ("Fd", x, z) if z <= y and not w & y else None
+
+
+# The chase, point 16.
+
+
+def parts_of(count, dependency):
+    if isinstance(dependency, Jd):
+        return dependency.parts
+    left, right = set(dependency.left), set(dependency.right)
+    return (tuple(sorted(left | right)), tuple(sorted(left | set(range(count)) - right)))
+
+
+def first_rows(count, target):
+    if isinstance(target, Jd):
+        return [
+            [0 if column in part else at + 1 for column in range(count)] for at, part in enumerate(target.parts)
+        ]
+    return [[0] * count, [0 if column in target.left else 1 for column in range(count)]]
+
+
+def goal_reached(count, target, rows):
+    if isinstance(target, Jd):
+        return any(row == [0] * count for row in rows)
+    if isinstance(target, Fd):
+        return agree(rows[0], rows[1], target.right)
+    both = set(target.left) | set(target.right)
+    others = set(range(count)) - both
+    return any(agree(row, rows[0], both) and agree(row, rows[1], others) for row in rows)
+
+
+def step_taken(count, dependencies, rows, step):
+    """The rows behind a step, or None if it is not right."""
+    if not 0 <= step[1] < len(dependencies):
+        return None
+    dependency = dependencies[step[1]]
+    if (step[0] == "same") != isinstance(dependency, Fd):
+        return None
+    if step[0] == "join":
+        parts = parts_of(count, dependency)
+        if len(step[2]) != len(parts) or not all(0 <= at < len(rows) for at in step[2]):
+            return None
+        asked = [{rows[at][column] for at, part in zip(step[2], parts) if column in part} for column in range(count)]
+        if any(len(cells) != 1 for cells in asked):
+            return None
+        return rows + [[min(cells) for cells in asked]]
+    first, second, column = step[2:]
+    if not 0 <= first < len(rows) or not 0 <= second < len(rows) or column not in dependency.right:
+        return None
+    if not agree(rows[first], rows[second], dependency.left) or rows[first][column] == rows[second][column]:
+        return None
+    low, high = sorted((rows[first][column], rows[second][column]))
+    return [
+        [low if at == column and cell == high else cell for at, cell in enumerate(row)] for row in rows
+    ]
+
+
+def chased(count, dependencies, target, steps):
+    """Whether each step is right and the goal is reached behind the last one."""
+    rows = first_rows(count, target)
+    for step in steps:
+        rows = step_taken(count, dependencies, rows, step)
+        if rows is None:
+            return False
+    return goal_reached(count, target, rows)
+
+
+def takes(count, dependencies, target, verdict, paper):
+    """The judge of point 18, put together from all that stands above."""
+    word, content = paper
+    if not verdict:
+        return word == "table" and shows_not(count, dependencies, target, content)
+    if word == "chased":
+        return chased(count, dependencies, target, content)
+    if word != "derived" or not content:
+        return False
+    told = derived(count, dependencies, content)
+    return told is not None and told[-1] == fields(target)
+
+
+# What comes out.
+
+
+def is_tuples(value):
+    """Whether a paper is of tuples throughout, as far as its parts are no numbers, words or None."""
+    if isinstance(value, tuple):
+        return all(is_tuples(part) for part in value)
+    return value is None or type(value) in (int, str)
