@@ -260,3 +260,112 @@ def is_tuples(value):
     if isinstance(value, tuple):
         return all(is_tuples(part) for part in value)
     return value is None or type(value) in (int, str)
+
+
+# What functional dependencies say together: points 11 and 19 to 22.
+
+
+def closures(count, fds):
+    """The closure of each set: what the closed sets that it is within have in common."""
+    sets = subsets(range(count))
+    closed = [set(some) for some in sets if is_closed(fds, some)]
+    return {some: tuple(sorted(set.intersection(*[one for one in closed if set(some) <= one]))) for some in sets}
+
+
+def follow_all(some, others):
+    """Whether all other functional dependencies follow from some."""
+    return all(set(fd.right) <= set(reach(some, fd.left)) for fd in others)
+
+
+def say_the_same(some, others):
+    return follow_all(some, others) and follow_all(others, some)
+
+
+def reach(fds, columns):
+    """The least closed set that a set is within, found by going up from it."""
+    found = set(columns)
+    while not is_closed(fds, found):
+        for fd in fds:
+            if set(fd.left) <= found:
+                found |= set(fd.right)
+    return tuple(sorted(found))
+
+
+def all_keys(count, fds):
+    """The keys and the greatest sets that hold none, by point 22."""
+    told = closures(count, fds)
+    full = [set(some) for some in told if len(told[some]) == count]
+    rest = [set(some) for some in told if len(told[some]) < count]
+    least = [tuple(sorted(some)) for some in full if not any(other < some for other in full)]
+    greatest = [tuple(sorted(some)) for some in rest if not any(some < other for other in rest)]
+    return (sorted(least), sorted(greatest))
+
+
+def spread_is_right(count, fds, many, paper):
+    """Whether a paper of point 21 is right, for a cover with so many dependencies."""
+    _, sets, between = paper
+    if len(sets) != many or not all(is_set(some, count) for some in sets + between):
+        return False
+    if any(is_closed(fds, some) for some in sets) or not all(is_closed(fds, some) for some in between):
+        return False
+    pairs = list(itertools.combinations(sets, 2))
+    if len(pairs) != len(between):
+        return False
+    for (a, b), some in zip(pairs, between):
+        a, b, some = set(a), set(b), set(some)
+        if not a <= b and not b <= a:
+            if some != a & b:
+                return False
+        elif not (a <= some <= b or b <= some <= a):
+            return False
+    return True
+
+
+# Splits, points 23 to 26.
+
+
+def is_split(count, parts):
+    """Whether some sets are a split, none within another one, ascending."""
+    if not all(type(part) is tuple and is_set(part, count) for part in parts):
+        return False
+    nested = any(set(a) <= set(b) for a, b in itertools.permutations(parts, 2))
+    return not nested and list(parts) == sorted(parts) and set().union(*parts) == set(range(count))
+
+
+def loses_nothing(count, fds, parts):
+    """Whether a split is lossless for functional dependencies, by a tableau."""
+    rows = first_rows(count, Jd(parts))
+    changed = True
+    while changed:
+        changed = False
+        for fd in fds:
+            for r, s in itertools.combinations(rows, 2):
+                for column in fd.right:
+                    if agree(r, s, fd.left) and r[column] != s[column]:
+                        low, high = sorted((r[column], s[column]))
+                        for row in rows:
+                            row[column] = low if row[column] == high else row[column]
+                        changed = True
+    return [0] * count in rows
+
+
+def of_parts(told, parts):
+    """The functional dependencies of the parts, for the closures of all sets."""
+    return [Fd(left, set(told[left]) & set(part)) for part in parts for left in subsets(part)]
+
+
+def telling(told, part):
+    """The functional dependencies of a part, as pairs, whose right side is not within the left one."""
+    pairs = itertools.product(subsets(part), repeat=2)
+    return [(x, y) for x, y in pairs if set(y) <= set(told[x]) and not set(y) <= set(x)]
+
+
+def in_boyce_codd_form(told, part):
+    return all(set(part) <= set(told[x]) for x, y in telling(told, part))
+
+
+def in_third_form(told, part):
+    full = [set(some) for some in subsets(part) if set(part) <= set(told[some])]
+    least = [some for some in full if not any(other < some for other in full)]
+    in_keys = set().union(*least)
+    return all(set(part) <= set(told[x]) or set(y) - set(x) <= in_keys for x, y in telling(told, part))

@@ -1,4 +1,4 @@
-"""Those rules of LANGUAGE.md that can be read off a file: L1 to L3, L8, L10, L12, L14, L17, L27."""
+"""Those rules of LANGUAGE.md that can be read off a file: L1 to L4, L7, L8, L10, L12, L14 to L17, L20, L24, L27."""
 import ast
 import builtins
 import pathlib
@@ -119,6 +119,58 @@ class Language(unittest.TestCase):
                     self.assertNotIsInstance(node.value, (float, complex), path)
                 if isinstance(node, ast.Constant) and isinstance(node.value, str):
                     self.assertNotIn("%", node.value, path)
+
+    def test_values_that_classes_with_an_eq_do_without(self):
+        for path, text in files():
+            for node in ast.walk(ast.parse(text)):
+                self.assertNotIsInstance(node, (ast.GeneratorExp, ast.Yield, ast.YieldFrom, ast.JoinedStr), path)
+                if isinstance(node, (ast.FunctionDef, ast.ClassDef)):
+                    self.assertEqual(node.decorator_list, [], path)
+                if isinstance(node, ast.Compare) and isinstance(node.ops[0], (ast.Is, ast.IsNot)):
+                    self.assertIn(ast.unparse(node.comparators[0]), ("None", "True", "False"), path)
+
+    def test_sets_are_sorted_or_counted(self):
+        for path, text in files():
+            tree = ast.parse(text)
+            sets = [node for node in ast.walk(tree) if self.is_set(node)]
+            held = []
+            for node in ast.walk(tree):
+                if isinstance(node, ast.Call) and ast.unparse(node.func) in ("sorted", "len"):
+                    held.extend(self.joined(node.args[0]))
+            self.assertEqual([ast.unparse(node) for node in sets if node not in held], [], path)
+
+    def is_set(self, node):
+        made = isinstance(node, ast.Call) and ast.unparse(node.func) in ("set", "frozenset")
+        return made or isinstance(node, (ast.Set, ast.SetComp))
+
+    def joined(self, node):
+        """The sets that a value is, or of which it is put together."""
+        if isinstance(node, ast.BinOp):
+            return self.joined(node.left) + self.joined(node.right)
+        return [node]
+
+    def test_imports_lead_back_nowhere(self):
+        asked = {}
+        for path, text in files():
+            body = ast.parse(text).body
+            asked[path.stem] = {
+                node.module.split(".")[1] for node in body
+                if isinstance(node, ast.ImportFrom) and node.module not in LIBRARY
+            }
+        while asked:
+            free = [name for name in asked if not asked[name] & set(asked)]
+            self.assertNotEqual(free, [])
+            asked = {name: asked[name] for name in asked if name not in free}
+
+    def test_no_local_name_is_an_import_or_a_class(self):
+        for path, text in files():
+            tree = ast.parse(text)
+            barred = {alias.name for node in tree.body if isinstance(node, ast.ImportFrom) for alias in node.names}
+            barred |= {node.name for node in tree.body if isinstance(node, ast.ClassDef)}
+            given = {node.arg for node in ast.walk(tree) if isinstance(node, ast.arg)}
+            stored = [node for node in ast.walk(tree) if isinstance(node, ast.Name)]
+            given |= {node.id for node in stored if isinstance(node.ctx, ast.Store)}
+            self.assertFalse(given & barred, path)
 
     def test_names(self):
         barred = set(dir(builtins))
