@@ -43,6 +43,15 @@ def is_set(columns, count):
     return met(columns, whole(count)) == columns
 
 
+def outermost(sets):
+    """The sets that are within no other one of some sets, once each, ascending."""
+    different = sorted(set(sets))
+    return [
+        one for one in different
+        if not any([one != other and is_within(one, other) for other in different])
+    ]
+
+
 def mask_of(columns):
     """A set as one number: the bits with the numbers of its columns are 1."""
     mask = 0

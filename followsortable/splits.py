@@ -5,7 +5,7 @@ from followsortable.closure import closed, grown, masks_of
 from followsortable.covers import reduced
 from followsortable.dependency import Fd, Jd
 from followsortable.keys import keys
-from followsortable.sets import all_sets, is_within, less, mask_of, met, set_of, united, whole
+from followsortable.sets import all_sets, is_within, less, mask_of, met, outermost, set_of, united, whole
 
 
 def lossless(count, dependencies, parts):
@@ -47,7 +47,7 @@ def third(count, dependencies):
     if whole(count) not in [closed(dependencies, part) for part in split]:
         found, _ = keys(count, dependencies)
         split.append(found[0])
-    return _outermost(split)
+    return outermost(split)
 
 
 def fourth(count, dependencies):
@@ -75,16 +75,7 @@ def _split_up(count, halves_of):
         waiting.extend(halves)
         if not halves:
             done.append(part)
-    return _outermost(done)
-
-
-def _outermost(parts):
-    """The parts that are within no other part, once each, ascending."""
-    different = sorted(set(parts))
-    return [
-        part for part in different
-        if not any([part != other and is_within(part, other) for other in different])
-    ]
+    return outermost(done)
 
 
 def _broken_halves(count, dependencies, part):

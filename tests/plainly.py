@@ -369,3 +369,184 @@ def in_third_form(told, part):
     least = [some for some in full if not any(other < some for other in full)]
     in_keys = set().union(*least)
     return all(set(part) <= set(told[x]) or set(y) - set(x) <= in_keys for x, y in telling(told, part))
+
+
+# Join trees, point 29.
+
+
+def connects(nodes, edges):
+    """Whether edges connect some nodes, going from one of them to all others."""
+    nodes = set(nodes)
+    met = set(list(nodes)[:1])
+    waiting = list(met)
+    while waiting:
+        at = waiting.pop()
+        for i, j in edges:
+            for here, there in ((i, j), (j, i)):
+                if here == at and there in nodes and there not in met:
+                    met.add(there)
+                    waiting.append(there)
+    return met == nodes
+
+
+def is_join_tree(parts, edges):
+    """Whether edges are those of a join tree, as pairs (i, j), i < j, ascending."""
+    if len(edges) != len(parts) - 1 or any(a >= b for a, b in zip(edges, edges[1:])):
+        return False
+    if not all(0 <= i < j < len(parts) for i, j in edges) or not connects(range(len(parts)), edges):
+        return False
+    for column in set().union(*parts):
+        nodes = [at for at, part in enumerate(parts) if column in part]
+        if not connects(nodes, [(i, j) for i, j in edges if i in nodes and j in nodes]):
+            return False
+    return True
+
+
+def is_acyclic(parts):
+    """Whether one of all trees is a join tree."""
+    pairs = list(itertools.combinations(range(len(parts)), 2))
+    return any(is_join_tree(parts, edges) for edges in itertools.combinations(pairs, len(parts) - 1))
+
+
+def is_core(parts, columns):
+    if any(a >= b for a, b in zip(columns, columns[1:])):
+        return False
+    inner = {frozenset(part) & frozenset(columns) for part in parts}
+    left = [some for some in inner if not any(some < other for other in inner)]
+    return len(left) >= 2 and all(sum(column in some for some in left) >= 2 for column in columns)
+
+
+def takes_tree(parts, paper):
+    word, content = paper
+    return is_join_tree(parts, content) if word == "tree" else is_core(parts, content)
+
+
+def some_acyclic(chance, count, many):
+    """A list of sets, each of which shares columns with a single one before it, if with any."""
+    parts = [set(some_set(chance, count, 0.5))]
+    for _ in range(many - 1):
+        old = chance.choice(parts)
+        fresh = [column for column in range(count) if not any(column in part for part in parts)]
+        parts.append({column for column in old if chance.random() < 0.5} | set(fresh[:chance.randrange(3)]))
+    chance.shuffle(parts)
+    return [tuple(sorted(part)) for part in parts]
+
+
+# Joins, points 8 and 30, and tables as values that == compares without their help.
+
+
+def table_fields(table):
+    return (table.columns, table.rows)
+
+
+def cells_of(columns, row, wanted):
+    """The cells of a row in some columns, looked up by column."""
+    told = dict(zip(columns, row))
+    return tuple(told[column] for column in wanted)
+
+
+def projected(table, wanted):
+    return sorted({cells_of(table.columns, row, wanted) for row in table.rows})
+
+
+def join_rows(tables):
+    """The columns and the rows of the join of tables, row by row."""
+    columns = sorted(set().union(*[table.columns for table in tables]))
+    found = [{}]
+    for table in tables:
+        found = [
+            {**one, **dict(zip(table.columns, row))} for one in found for row in table.rows
+            if all(one.get(column, cell) == cell for column, cell in zip(table.columns, row))
+        ]
+    return tuple(columns), tuple(sorted({tuple(one[column] for column in columns) for one in found}))
+
+
+# States, points 31 to 34.
+
+
+def is_whole(count, fds, tables, rows):
+    """Whether rows are those of a whole table for a state."""
+    if any(len(row) != count for row in rows):
+        return False
+    for fd in fds:
+        for r, s in itertools.combinations(rows, 2):
+            if agree(r, s, fd.left) and not agree(r, s, fd.right):
+                return False
+    for table in tables:
+        there = {tuple(row[column] for column in table.columns) for row in rows}
+        if not set(table.rows) <= there:
+            return False
+    return True
+
+
+def first_cells(count, tables):
+    """The rows with which the chase of a state begins, as lists of pairs (kind, number)."""
+    numbers = itertools.count()
+    rows = []
+    for table in tables:
+        for row in table.rows:
+            told = dict(zip(table.columns, row))
+            rows.append([(0, told[at]) if at in told else (1, next(numbers)) for at in range(count)])
+    return rows
+
+
+def state_step(fds, rows, step):
+    """Change the rows as a step tells: "clash", "made", or None for a step that is not right."""
+    index, first, second, column = step
+    if not 0 <= index < len(fds) or not 0 <= first < len(rows) or not 0 <= second < len(rows):
+        return None
+    if column not in fds[index].right or not agree(rows[first], rows[second], fds[index].left):
+        return None
+    one, other = rows[first][column], rows[second][column]
+    if one == other:
+        return None
+    if one[0] == 0 and other[0] == 0:
+        return "clash"
+    if one[0] == 0 or (other[0] == 1 and one[1] < other[1]):
+        old, new = other, one
+    else:
+        old, new = one, other
+    for row in rows:
+        row[:] = [new if cell == old else cell for cell in row]
+    return "made"
+
+
+def clashes(count, fds, tables, steps):
+    """Whether steps are right ones of which exactly the last one is a clash."""
+    rows = first_cells(count, tables)
+    found = [state_step(fds, rows, step) for step in steps]
+    return found[-1:] == ["clash"] and found[:-1] == ["made"] * (len(found) - 1)
+
+
+def takes_whole(count, fds, tables, verdict, paper):
+    word, content = paper
+    if verdict:
+        return word == "table" and is_whole(count, fds, tables, content)
+    return word == "clash" and clashes(count, fds, tables, content)
+
+
+def state_chased(count, fds, tables):
+    """The rows of cells behind all steps, or None if there is a clash."""
+    rows = first_cells(count, tables)
+    places = list(itertools.product(range(len(rows)), range(len(rows)), range(count)))
+    changed = True
+    while changed:
+        changed = False
+        for index in range(len(fds)):
+            for first, second, column in places:
+                if first < second and column in fds[index].right:
+                    found = state_step(fds, rows, (index, first, second, column))
+                    if found == "clash":
+                        return None
+                    changed = changed or found == "made"
+    return rows
+
+
+def window_rows(count, fds, tables, columns):
+    """The rows that have no unknowns in a set of columns, or None if there is a clash."""
+    rows = state_chased(count, fds, tables)
+    if rows is None:
+        return None
+    parts = [[row[column] for column in columns] for row in rows]
+    known = [part for part in parts if all(kind == 0 for kind, _ in part)]
+    return tuple(sorted({tuple(number for _, number in part) for part in known}))

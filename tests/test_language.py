@@ -1,4 +1,4 @@
-"""Those rules of LANGUAGE.md that can be read off a file: L1 to L4, L7, L8, L10, L12, L14 to L17, L20, L24, L27."""
+"""Those rules of LANGUAGE.md that can be read off a file: L1 to L4, L7, L8, L10, L12, L14 to L17, L20, L24 to L27."""
 import ast
 import builtins
 import pathlib
@@ -27,6 +27,17 @@ BUILTINS = set(
 
 METHODS = set(
     "__init__ __eq__ __repr__ __str__ __len__ __enter__ __exit__ __call__ __iter__".split()
+)
+
+CALLED = set(
+    "append clear copy count endswith extend find get index insert isalnum isalpha isdigit islower isspace isupper items"
+    " join keys ljust lower lstrip partition pop remove replace reverse rfind rjust rpartition rsplit rstrip setdefault"
+    " split splitlines startswith strip update upper values zfill bit_length".split()
+)
+
+NO_ATTRIBUTES = set(
+    "items keys values pop update append clear extend insert remove reverse setdefault sort args encode decode hex"
+    " fromhex format".split()
 )
 
 BARRED = set("register mro elements open input law version_info with_traceback add_note".split())
@@ -148,6 +159,25 @@ class Language(unittest.TestCase):
         if isinstance(node, ast.BinOp):
             return self.joined(node.left) + self.joined(node.right)
         return [node]
+
+    def test_methods_and_attributes(self):
+        trees = [(path, ast.parse(text)) for path, text in files()]
+        classes = [node for _, tree in trees for node in ast.walk(tree) if isinstance(node, ast.ClassDef)]
+        own = {node.name for made in classes for node in made.body if isinstance(node, ast.FunctionDef)}
+        for path, tree in trees:
+            for node in ast.walk(tree):
+                if isinstance(node, ast.Call) and isinstance(node.func, ast.Attribute):
+                    self.assertIn(node.func.attr, CALLED | own, path)
+                if isinstance(node, ast.Attribute) and isinstance(node.ctx, ast.Store):
+                    self.assertNotIn(node.attr, NO_ATTRIBUTES, path)
+        for made in classes:
+            names = [node.name for node in made.body if isinstance(node, ast.FunctionDef)]
+            given = {
+                node.attr for node in ast.walk(made)
+                if isinstance(node, ast.Attribute) and isinstance(node.ctx, ast.Store)
+            }
+            self.assertEqual(len(names), len(set(names)))
+            self.assertFalse(given & set(names), made.name)
 
     def test_imports_lead_back_nowhere(self):
         asked = {}
