@@ -63,3 +63,22 @@ def mask_of(columns):
 def set_of(mask):
     """The set of which mask_of makes this number."""
     return tuple([column for column in range(mask.bit_length()) if mask >> column & 1])
+
+
+def borders(holds):
+    """The list of the least sets with a property, and that of the greatest sets without it, both ascending.
+
+    holds says for each mask whether its set has the property. Each set has it
+    that one with it is within, so sets with one column more or less tell
+    enough.
+    """
+    bits = set_of(len(holds) - 1)
+    least, greatest = [], []
+    for mask, held in enumerate(holds):
+        smaller = [mask ^ (1 << bit) for bit in bits if mask >> bit & 1]
+        greater = [mask | (1 << bit) for bit in bits if not mask >> bit & 1]
+        if held and not any([holds[other] for other in smaller]):
+            least.append(set_of(mask))
+        if not held and all([holds[other] for other in greater]):
+            greatest.append(set_of(mask))
+    return (sorted(least), sorted(greatest))

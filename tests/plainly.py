@@ -550,3 +550,106 @@ def window_rows(count, fds, tables, columns):
     parts = [[row[column] for column in columns] for row in rows]
     known = [part for part in parts if all(kind == 0 for kind, _ in part)]
     return tuple(sorted({tuple(number for _, number in part) for part in known}))
+
+
+# Reasons and repairs, points 36 to 38.
+
+
+def all_reasons(fds, target):
+    """The reasons and the greatest sets from which the target does not follow, by going through all sets."""
+    sets = subsets(range(len(fds)))
+    follows = {some: set(target.right) <= set(reach([fds[at] for at in some], target.left)) for some in sets}
+    yes = [set(some) for some in sets if follows[some]]
+    no = [set(some) for some in sets if not follows[some]]
+    least = [tuple(sorted(some)) for some in yes if not any(other < some for other in yes)]
+    greatest = [tuple(sorted(some)) for some in no if not any(some < other for other in no)]
+    return (sorted(least), sorted(greatest))
+
+
+def first_broken(r, s, fds):
+    """The index of the first dependency that two rows break together, or None."""
+    for index, fd in enumerate(fds):
+        if agree(r, s, fd.left) and not agree(r, s, fd.right):
+            return index
+    return None
+
+
+def all_conflicts(rows, fds):
+    pairs = itertools.combinations(range(len(rows)), 2)
+    told = [(i, j, first_broken(rows[i], rows[j], fds)) for i, j in pairs]
+    return [triple for triple in told if triple[2] is not None]
+
+
+def all_repairs(rows, fds):
+    """The rows of each repair, by going through all sets of rows."""
+    conflicts = {(i, j) for i, j, _ in all_conflicts(rows, fds)}
+    kept = [set(some) for some in subsets(range(len(rows))) if not any((i, j) in conflicts for i, j in pairs_of(some))]
+    greatest = [some for some in kept if not any(some < other for other in kept)]
+    return sorted(tuple(rows[at] for at in sorted(some)) for some in greatest)
+
+
+def pairs_of(some):
+    return itertools.combinations(sorted(some), 2)
+
+
+# Texts, points 39 and 40.
+
+
+def set_text(columns):
+    return " ".join(str(column) for column in columns) if columns else "-"
+
+
+def text_of(dependency):
+    if isinstance(dependency, Jd):
+        return "join" + "".join(" [" + set_text(part) + "]" for part in dependency.parts)
+    sign = {"Fd": ">", "Mvd": ">>"}[type(dependency).__name__]
+    return set_text(dependency.left) + " " + sign + " " + set_text(dependency.right)
+
+
+def set_of_text(text, count):
+    """The set that has a text, or None."""
+    if text == "-":
+        return ()
+    words = text.split(" ")
+    names = [str(column) for column in range(count)]
+    if not all(word in names for word in words):
+        return None
+    columns = [names.index(word) for word in words]
+    return tuple(columns) if columns == sorted(set(columns)) else None
+
+
+def sets_of_texts(texts, count):
+    sets = [set_of_text(text, count) for text in texts]
+    return None if None in sets else sets
+
+
+def fields_of_text(text, count):
+    """The fields of the dependency that has a text, or None."""
+    if text.startswith("join [") and text.endswith("]"):
+        parts = sets_of_texts(text[6:-1].split("] ["), count)
+        if parts is None or set().union(*parts) != set(range(count)):
+            return None
+        return ("Jd", tuple(parts))
+    for sign, name in ((" >> ", "Mvd"), (" > ", "Fd")):
+        if text.count(sign) == 1:
+            sides = sets_of_texts(text.split(sign), count)
+            return None if sides is None else (name, *sides)
+    return None
+
+
+def endings(count):
+    """Texts of which one behind each beginning of the text of a dependency makes such a text."""
+    join = "join [-] [" + set_text(range(count)) + "]"
+    told = {whole[at:] for whole in ("- > -", "- >> -", join) for at in range(len(whole) + 1)}
+    told |= {str(column) + more for column in range(count) for more in ("", " > -", join[7:])}
+    return sorted(told)
+
+
+def is_beginning(text, count):
+    return any(fields_of_text(text + more, count) is not None for more in endings(count))
+
+
+def is_beginning_of_all(text, count):
+    """Whether a text is a beginning of the text of a list."""
+    *lines, last = text.split("\n")
+    return all(fields_of_text(line, count) is not None for line in lines) and is_beginning(last, count)
