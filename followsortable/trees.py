@@ -2,7 +2,7 @@
 from itertools import combinations
 
 from followsortable.dependency import Mvd
-from followsortable.sets import as_set, met, outermost, united
+from followsortable.sets import as_set, met, outermost
 
 
 def join_tree(parts):
@@ -68,8 +68,7 @@ def _are_connected(nodes, edges):
 
 def _joins_all_columns(parts, edges):
     """Whether for each column the edges connect the sets that contain it."""
-    columns = as_set([column for part in parts for column in part])
-    holders = [[node for node, part in enumerate(parts) if column in part] for column in columns]
+    holders = [[node for node, part in enumerate(parts) if column in part] for column in _union(parts)]
     return all([_are_connected(nodes, edges) for nodes in holders])
 
 

@@ -192,6 +192,12 @@ class Language(unittest.TestCase):
             self.assertNotEqual(free, [])
             asked = {name: asked[name] for name in asked if name not in free}
 
+    def test_every_import_is_used(self):
+        for path, text in files():
+            tree = ast.parse(text)
+            taken = {alias.name for node in tree.body if isinstance(node, ast.ImportFrom) for alias in node.names}
+            self.assertLessEqual(taken, {node.id for node in ast.walk(tree) if isinstance(node, ast.Name)}, path)
+
     def test_no_local_name_is_an_import_or_a_class(self):
         for path, text in files():
             tree = ast.parse(text)
